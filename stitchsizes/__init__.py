@@ -1,0 +1,1 @@
+"""Stitchsizes: knitting patterns for all sizes at once."""
