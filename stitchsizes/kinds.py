@@ -52,6 +52,11 @@ class Kind:
         """The name of the kind."""
         return self._name
 
+    @name.setter
+    def name(self, value):
+        # Errors assign attributes of this name, so the property needs a setter; a kind does not change.
+        raise AttributeError("name")
+
     @property
     def takes(self):
         """How many loops of the row below it takes."""

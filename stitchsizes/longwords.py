@@ -3,7 +3,7 @@
 from stitchsizes.checks import is_count, is_count_to, is_list_of
 from stitchsizes.errors import InvalidBooks, InvalidNumber, InvalidParts, InvalidWord, UnknownKind
 from stitchsizes.kinds import Book
-from stitchsizes.runs import first_unlike, letter_count, letters_from, run_length, tidy
+from stitchsizes.runs import letter_count, letters_from, run_length, tidy, unlike_place
 
 _MOST_PARTS = 400
 _MOST_LETTERS = 400
@@ -84,7 +84,7 @@ class LongWord:
     def first_difference(self, other):
         """The first place at which the letters differ, or at which only one word ends; None if they are equal."""
         _check_other(self._book, other)
-        return first_unlike(self._runs, other._runs)
+        return unlike_place(self._runs, other._runs)
 
     def turned(self):
         """The word as it is worked from the wrong side."""
@@ -124,4 +124,4 @@ def _of_runs(book, runs):
 
 
 def _same_letters(runs, others):
-    return first_unlike(runs, others) is None
+    return unlike_place(runs, others) is None

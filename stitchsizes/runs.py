@@ -42,7 +42,7 @@ def letters_from(runs, first, many):
     return found
 
 
-def first_unlike(runs, others):
+def unlike_place(runs, others):
     """The first place at which two tidy runs differ, or at which only one of them ends; None if they are equal."""
     place = 0
     at = used = 0

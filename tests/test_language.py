@@ -20,6 +20,8 @@ BUILTINS = set(
     " LookupError ZeroDivisionError ArithmeticError OverflowError RuntimeError NotImplementedError AttributeError"
     " StopIteration NotImplemented property classmethod staticmethod super".split()
 )
+# An interpreter, or a doctest, puts its last answer there as `_`.
+ALL_BUILTINS = set(dir(builtins)) - {"_"}
 LIBRARY = {
     "math": {"gcd", "lcm", "isqrt", "comb", "perm", "factorial"},
     "heapq": {"heappush", "heappop", "heapify", "heapreplace", "heappushpop"},
@@ -94,6 +96,7 @@ class Checker:
         self.own = {node.name for node in functions}
         self.classes = {node.name for node in every if isinstance(node, ast.ClassDef)}
         self.generators = [node.name for node in functions if yields(node)]
+        self.class_methods = {node.name for node in functions if {"classmethod", "staticmethod"} & {*decorators(node)}}
         self.properties = {node.name for node in functions if "property" in decorators(node)}
 
     def told(self, rule, name, line, what):
@@ -191,7 +194,10 @@ class Checker:
             local = assigned_in(node)
             for word in sorted(local & barred):
                 self.told("L15", name, node.lineno, f"{word} is a class or an import")
+            setters = {part.value for part in node.decorator_list if "setter" in decorators(node)}
             for inner in ast.walk(node):
+                if inner in setters:
+                    continue
                 if isinstance(inner, ast.Name) and inner.id not in local | known | outer_names(tree, node):
                     self.told("L8", name, inner.lineno, f"{inner.id} is not known")
 
@@ -238,7 +244,7 @@ class Checker:
             self.told("L17", name, line, f"the name {word}")
         is_method = isinstance(node, ast.FunctionDef)
         if isinstance(node, (ast.arg, ast.ClassDef)) or isinstance(node, ast.Name) and isinstance(node.ctx, ast.Store):
-            if hasattr(builtins, word):
+            if word in ALL_BUILTINS:
                 self.told("L15", name, line, f"{word} is a builtin")
         if is_method and (word in BUILTINS or word in ("map", "iter", "next")):
             self.told("L8", name, line, f"{word} is a builtin")
@@ -248,7 +254,7 @@ class Checker:
         if node.end_lineno - line + 1 > 40:
             self.told("L10", name, line, f"{node.name} is too long")
         given = decorators(node)
-        if len(given) > 1 or not set(given) <= {"property", "classmethod", "staticmethod"}:
+        if len(given) > 1 or not set(given) <= {"property", "setter", "classmethod", "staticmethod"}:
             self.told("L4", name, line, "a decorator")
         for default in [*node.args.defaults, *node.args.kw_defaults]:
             if default is not None and not isinstance(default, (ast.Constant, ast.Tuple, ast.UnaryOp)):
@@ -287,7 +293,12 @@ class Checker:
                     self.told("L28", name, line, f"{node.name} assigns")
 
     def check_class(self, name, node):
-        methods = [part for part in node.body if isinstance(part, ast.FunctionDef)]
+        methods = methods_of(node)
+        given = {part.name for part in methods if "property" in decorators(part)}
+        for part in node.body:
+            if isinstance(part, ast.FunctionDef) and "setter" in decorators(part):
+                if part.name not in given or len(part.args.args) != 2:
+                    self.told("L5", name, part.lineno, "a setter")
         if len(methods) != len({part.name for part in methods}):
             self.told("L18", name, node.lineno, "a method that is defined twice")
         for part in node.body:
@@ -344,7 +355,8 @@ class Checker:
                 self.told("L25", name, line, "a method of a literal")
             if node.func.attr in METHODS and node.keywords:
                 self.told("L25", name, line, "keywords of a method")
-            if isinstance(node.func.value, ast.Name) and node.func.value.id in self.classes:
+            off_class = isinstance(node.func.value, ast.Name) and node.func.value.id in self.classes
+            if off_class and node.func.attr not in self.class_methods:
                 self.told("L5", name, line, "a method that is read off a class")
         starred = [at for at, given in enumerate(node.args) if isinstance(given, ast.Starred)]
         if len(starred) > 1:
@@ -388,22 +400,36 @@ class Checker:
             for name in free:
                 del before[name]
 
+    def without_setters(self):
+        """The names of the properties that have no setter in one class or more."""
+        found = set()
+        for tree in self.trees.values():
+            for node in ast.walk(tree):
+                if isinstance(node, ast.ClassDef):
+                    functions = [part for part in node.body if isinstance(part, ast.FunctionDef)]
+                    given = {part.name for part in functions if "setter" in decorators(part)}
+                    found |= {part.name for part in functions if "property" in decorators(part)} - given
+        return found
+
     def check_methods(self):
-        """A property has no name of a method, and an attribute that is read is assigned somewhere."""
+        """A property that is assigned anywhere has a setter wherever it stands. A property has no name of a method, and an attribute that is read is assigned somewhere."""
         plain, stored, read = set(), set(), []
+        fixed = self.without_setters()
         for name, tree in self.trees.items():
             for node in ast.walk(tree):
                 if isinstance(node, ast.ClassDef):
-                    plain.update(part.name for part in node.body
-                                 if isinstance(part, ast.FunctionDef) and "property" not in decorators(part))
+                    plain.update(part.name for part in methods_of(node) if "property" not in decorators(part))
+                    stored.update(part.targets[0].id for part in node.body if isinstance(part, ast.Assign))
                 if isinstance(node, ast.Attribute) and isinstance(node.ctx, ast.Store):
                     stored.add(node.attr)
+                    if node.attr in fixed:
+                        self.told("L5", name, node.lineno, f"a property that is given has a setter: {node.attr}")
                 elif isinstance(node, ast.Attribute):
                     read.append((name, node))
         for word in sorted(self.properties & plain):
             self.told("L5", "", 0, f"{word} is a property and a method")
         for name, node in read:
-            if node.attr not in stored | plain | self.properties | METHODS:
+            if node.attr not in {"setter"} | stored | plain | self.properties | METHODS:
                 self.told("L18", name, node.lineno, f"the attribute {node.attr} is not assigned")
 
 
@@ -417,7 +443,21 @@ def yields(function):
 
 
 def decorators(function):
-    return [node.id if isinstance(node, ast.Name) else "" for node in function.decorator_list]
+    """The decorators: names, "setter" for that of a property of the same name, and "" for anything else."""
+    found = []
+    for node in function.decorator_list:
+        setter = isinstance(node, ast.Attribute) and node.attr == "setter" and isinstance(node.value, ast.Name)
+        if setter and node.value.id == function.name:
+            found.append("setter")
+        else:
+            found.append(node.id if isinstance(node, ast.Name) else "")
+    return found
+
+
+def methods_of(node):
+    """The methods of a class by name; a property and its setter are one."""
+    methods = [part for part in node.body if isinstance(part, ast.FunctionDef)]
+    return [part for part in methods if "setter" not in decorators(part)]
 
 
 def is_plain(node):
@@ -539,6 +579,16 @@ class TestChecker(unittest.TestCase):
         ("L5", "class A:\n    @property\n    def title(self):\n        return 1\n"),
         ("L5", "class A:\n    @property\n    def a(self):\n        return 1\n\n\n"
                "class B:\n    def a(self):\n        return 1\n"),
+        ("L5", "class A:\n    @property\n    def a(self):\n        return 1\n\n\n"
+               "class B:\n    def __init__(self):\n        self.a = 1\n"),
+        ("L5", "class A:\n    @property\n    def a(self):\n        return 1\n\n\ndef b(c):\n    c.a = 1\n"),
+        ("L5", "class A:\n    @property\n    def a(self):\n        return 1\n\n    @a.setter\n"
+               "    def a(self, value):\n        self.b = value\n\n\n"
+               "class C:\n    @property\n    def a(self):\n        return 1\n\n\ndef b(c):\n    c.a = 1\n"),
+        ("L5", "class A:\n    @property\n    def a(self):\n        return 1\n\n    @a.setter\n"
+               "    def a(self, value, more):\n        self.b = value\n"),
+        ("L5", "class A:\n    @b.setter\n    def b(self, value):\n        self.c = value\n"),
+        ("L4", "class A:\n    @b.setter\n    def c(self, value):\n        self.d = value\n"),
         ("L5", "class A:\n    def b(self):\n        return 1\n\n\ndef c(a):\n    return A.b(a)\n"),
         ("L5", "class A:\n    def __getitem__(self, at):\n        return at\n"),
         ("L5", "def a(b, c):\n    b += c\n    return b\n"),
@@ -591,6 +641,18 @@ class TestChecker(unittest.TestCase):
         for rule, text in self.BAD:
             with self.subTest(text=text):
                 self.assertTrue([told for told in breaches(text) if told.startswith(rule)], breaches(text))
+
+    def test_setters(self):
+        """A name that is assigned is a property only where it has its setter, in whatever file it stands."""
+        errors = "class Bad(ValueError):\n    def __init__(self, name):\n        self.name = name\n"
+        fixed = "class Kind:\n    @property\n    def name(self):\n        return 1\n"
+        setter = "\n    @name.setter\n    def name(self, value):\n        raise AttributeError(value)\n"
+        found = breaches(fixed, errors=errors)
+        self.assertEqual([told for told in found if "has a setter: name" in told], found)
+        self.assertEqual(found, ["L5 errors.py:3 a property that is given has a setter: name"])
+        self.assertEqual(breaches(fixed + setter, errors=errors), [])
+        self.assertEqual(len(breaches(fixed + setter, errors=errors, others=fixed.replace("Kind", "Box"))), 1)
+        self.assertEqual(breaches(fixed, errors=errors.replace("self.name", "self.value")), [])
 
     def test_imports_among_files(self):
         one = "from stitchsizes.other import b\n\n\ndef a():\n    return b()\n"
