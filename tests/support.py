@@ -11,12 +11,20 @@ if ROOT not in sys.path:
 
 from stitchsizes import errors  # noqa: E402
 from stitchsizes.cells import Cell  # noqa: E402
+from stitchsizes.fabrics import Fabric  # noqa: E402
+from stitchsizes.families import Family  # noqa: E402
 from stitchsizes.forms import Form  # noqa: E402
 from stitchsizes.kinds import Book, Kind  # noqa: E402
 from stitchsizes.longwords import LongWord  # noqa: E402
+from stitchsizes.patterns import Cut, Merge, Pattern, Repeat, Times, Until  # noqa: E402
+from stitchsizes.rows import RowText  # noqa: E402
 from stitchsizes.sections import Evenly, Kept, Rested  # noqa: E402
+from stitchsizes.sizes import Sizes  # noqa: E402
+from stitchsizes.trees import compare  # noqa: E402
+from stitchsizes.working import Work  # noqa: E402
 
 USUAL = Book.usual()
+OTHER_BOOK = Book(Kind("k", 1, 1), Kind("p", 1, 1))
 FAR = 10 ** 30 - 1
 BASES = {
     errors.StitchError: ValueError,
@@ -48,9 +56,14 @@ class Same:
 
 def objects():
     """One object of each kind of the package."""
+    family = Family(USUAL, [(("k",), Form(1))])
+    row = RowText(Rested(USUAL, (), ("k",), ()))
+    pattern = Pattern(USUAL, "round", [(4, 1)], [Repeat([row], 2)])
     return [
         Kind("k", 1, 1), USUAL, LongWord(USUAL, [(("k",), 3)]), Rested(USUAL, (), ("k",), ()),
         Kept(USUAL, (), ("k", "p"), (), shift=1), Evenly(USUAL, ("yo",), 2, "k"), Form(1, 2, 3), Cell(Form(1)),
+        family, compare(family, family, Cell()), row, Fabric(USUAL, 3), Repeat([row], 1), Times([row], 1, 0),
+        Until([row], 0, "just", 4), Cut(0, "left", 1), Merge(0), pattern, Work(pattern, 0), Sizes.whole(),
     ]
 
 
@@ -83,6 +96,26 @@ def no_name(value):
 
 def no_kind_name(value):
     return not (isinstance(value, str) and value in ("k", "p"))
+
+
+def no_book(value):
+    return not isinstance(value, Book)
+
+
+def no_list(value):
+    return not isinstance(value, (list, tuple))
+
+
+def no_text(value):
+    return not isinstance(value, (Rested, Kept, Evenly))
+
+
+def no_row(value):
+    return not isinstance(value, RowText)
+
+
+def no_pattern(value):
+    return not isinstance(value, Pattern)
 
 
 def no_word(value):

@@ -8,9 +8,16 @@ import os
 import unittest
 
 from support import ROOT, Case, USUAL
+from stitchsizes.cells import Cell
+from stitchsizes.families import Family
+from stitchsizes.forms import Form
 from stitchsizes.kinds import Book, Kind
 from stitchsizes.longwords import LongWord
+from stitchsizes.patterns import Pattern, Until
+from stitchsizes.rows import RowText
 from stitchsizes.sections import Evenly, Rested
+from stitchsizes.trees import compare, texts_compared
+from stitchsizes.working import outcome_at
 
 # For each class its parameters, methods (None: a property) with their parameters, and operators.
 SECTION = {
@@ -58,11 +65,69 @@ CLASSES = {
             "__repr__": "",
         }),
     },
+    "families": {
+        "Family": ("book, parts", {
+            "book": None, "parts": None, "length": None, "count": "name", "at": "x, y=0", "put": "first, second",
+            "in_order": "", "is_over": "cell", "__add__": "other", "__eq__": "other",
+        }),
+    },
+    "trees": {
+        "Tree": ("one, other, cell", {
+            "nodes": None, "is_alike": None, "leaves": "", "at": "x, y=0", "least": "", "__len__": "",
+            "__eq__": "other",
+        }),
+    },
+    "rows": {
+        "RowText": ("*texts", {
+            "book": None, "texts": None, "fits": "counts", "word": "counts", "made": "counts",
+            "worked": "counts, side", "__len__": "", "__eq__": "other", "__repr__": "",
+        }),
+    },
+    "fabrics": {
+        "Fabric": ("book, cast_on, rows=()", {
+            "book": None, "cast_on": None, "loops": None, "row": "number", "all_rows": "", "loops_at": "number",
+            "with_row": "word", "from_behind": "", "in_mirror": "", "first_difference": "other", "__len__": "",
+            "__eq__": "other",
+        }),
+    },
+    "patterns": {
+        "Step": ("", {}),
+        "Repeat": ("block, times", {"block": None, "times": None, "__eq__": "other"}),
+        "Times": ("block, p, q", {"block": None, "p": None, "q": None, "__eq__": "other"}),
+        "Until": ("block, section, way, loops", {
+            "block": None, "section": None, "way": None, "loops": None, "__eq__": "other",
+        }),
+        "Cut": ("section, edge, loops", {"section": None, "edge": None, "loops": None, "__eq__": "other"}),
+        "Merge": ("section", {"section": None, "__eq__": "other"}),
+        "Pattern": ("book, way, cast_on, steps", {
+            "book": None, "way": None, "cast_on": None, "steps": None, "sections_at": "step", "with_steps": "*steps",
+            "__len__": "", "__eq__": "other",
+        }),
+    },
+    "working": {
+        "Work": ("pattern, size", {
+            "pattern": None, "size": None, "outcome": None, "row_count": None, "row": "number", "worked_row": "number",
+            "counts": "number", "place": "number", "each_row": "", "fabric": "",
+        }),
+    },
+    "sizes": {
+        "Sizes": ("*stretches", {
+            "whole": "", "of": "*sizes", "least": "", "next_size": "size", "count": "first, last", "is_finite": None,
+            "without": "", "stretches": "", "__contains__": "x", "__or__": "other", "__and__": "other",
+            "__sub__": "other", "__eq__": "other", "__bool__": "",
+        }),
+    },
 }
 FUNCTIONS = {
     "lists": {"counts_through": "texts", "made_through": "texts", "worked_through": "texts, loops",
               "common_counts": "one, other"},
+    "families": {"root_of": "word", "period_of": "text", "text_family": "text, loops"},
+    "trees": {"compare": "one, other, cell", "agreed": "one, other, cell", "is_tree": "one, other, cell, value",
+              "texts_compared": "one, other", "first_unlike": "one, other"},
+    "rows": {"cut_section": "counts, section, edge, loops", "merge_section": "counts, section"},
+    "working": {"outcome_at": "pattern, size", "yarn_at": "pattern, size"},
 }
+GENERATORS = (("cells", "Cell", "points"), ("trees", "Tree", "leaves"), ("working", "Work", "each_row"))
 
 
 def parameters(made):
@@ -106,6 +171,12 @@ class TestInterface(Case):
                 self.assertIsInstance(nodes[name], ast.FunctionDef)
                 self.assertEqual(parameters(getattr(importlib.import_module(f"stitchsizes.{file}"), name)), told)
 
+    def test_generators(self):
+        for file, name, method in GENERATORS:
+            made = getattr(importlib.import_module(f"stitchsizes.{file}"), name)
+            self.assertTrue(inspect.isgeneratorfunction(vars(made)[method]), name)
+        self.assertTrue(inspect.isgeneratorfunction(texts_compared))
+
 
 class TestExamples(Case):
     def test_stage_1(self):
@@ -122,6 +193,21 @@ class TestExamples(Case):
         letters = Evenly(book, ("ktog",), 2, "k").word(9).letters(0, 9)
         told = [lace.counts(), lace.made(20), lace.fits(21), letters]
         self.assertEqual(told, [(8, 6), 20, False, ["k", "ktog", "k", "k", "ktog", "k", "k"]])
+
+    def test_stage_3(self):
+        book, x, y = Book.usual(), Form(1), Form(0, 1)
+        one = Family(book, [(("k",), x), (("p",), 1), (("k",), y)])
+        other = Family(book, [(("k",), y), (("p",), 1), (("k",), x)])
+        tree = compare(one, other, Cell())
+        told = [tree.at(3, 3), tree.at(2, 5), tree.at(5, 2), tree.least()]
+        self.assertEqual(told, [None, (2, "p", "k"), (2, "k", "p"), ((0, 1), 0, "p", "k")])
+
+    def test_stage_5(self):
+        book = Book.usual()
+        block = [RowText(Rested(book, ("ktog",), ("k",), ("ssk",))), RowText(Rested(book, (), ("k",), ()))]
+        hat = Pattern(book, "round", [(20, 4)], [Until(block, 0, "at most", 8)])
+        self.assertEqual([outcome_at(hat, 0), outcome_at(hat, 10 ** 20)],
+                         [("through", 12, (8,)), ("through", 400000000000000000012, (8,))])
 
     def test_readme(self):
         failed, tried = doctest.testfile(os.path.join(ROOT, "README.md"), module_relative=False)
