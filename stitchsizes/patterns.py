@@ -119,7 +119,7 @@ class Until(Step):
 
     @loops.setter
     def loops(self, value):
-        # As for the section.
+        # For the same reason as the setter of the section.
         raise AttributeError("loops")
 
     def __eq__(self, other):
@@ -145,7 +145,7 @@ class Cut(Step):
 
     @section.setter
     def section(self, value):
-        # As of Until.
+        # For the same reason as the setters of Until.
         raise AttributeError("section")
 
     @property
@@ -160,7 +160,7 @@ class Cut(Step):
 
     @loops.setter
     def loops(self, value):
-        # As of Until.
+        # For the same reason as the setters of Until.
         raise AttributeError("loops")
 
     def __eq__(self, other):
@@ -181,7 +181,7 @@ class Merge(Step):
 
     @section.setter
     def section(self, value):
-        # As of Until.
+        # For the same reason as the setters of Until.
         raise AttributeError("section")
 
     def __eq__(self, other):

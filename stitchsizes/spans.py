@@ -15,13 +15,12 @@ def spans_of(stretches):
     for stretch in filled:
         modulus = lcm(modulus, stretch[0])
     masks = {}
-    starts = [0]
     for step, residue, first, last in filled:
         end = None if last is None else last + 1
         masks[(first, end)] = masks.get((first, end), 0) | _repeated_bits(1 << residue, step, modulus)
-        starts.extend([first] if end is None else [first, end])
+    starts = [first for first, _ in masks] + [end for _, end in masks if end is not None]
     spans = []
-    for start in sorted(starts):
+    for start in sorted([0] + starts):
         mask = 0
         for (first, end), part in masks.items():
             if first <= start and (end is None or start < end):

@@ -287,6 +287,8 @@ class TestYarn(Case):
         for size in (0, 1, 2, 7, BIG):
             wanted = (2 * size + 1) * book.kind("ktog").yarn + size * (size + 1) * k + size * size * p
             self.assertEqual(yarn_at(less, size), wanted)
+        fixed = Pattern(book, "round", [(2, 0)], [Times([RowText(Rested(book, ("k", "p"), (), ()))], 1, 1)])
+        self.assertEqual(yarn_at(fixed, BIG), (BIG + 1) * (k + p))
         repeat = Pattern(book, "round", [(0, 3)], [Repeat([RowText(Evenly(book, ("yo",), 2, "p"))], 2)])
         self.assertEqual(yarn_at(repeat, BIG), 4 * yo + p * (3 * BIG + 3 * BIG + 2))
 
@@ -462,6 +464,23 @@ class TestFar(Case):
         self.assertEqual(flat.worked_row(2 * 10 ** 20), flat.row(2 * 10 ** 20).turned())
         self.assertEqual(flat.worked_row(2 * 10 ** 20 + 1), flat.row(2 * 10 ** 20 + 1))
         self.assertEqual(flat.worked_row(number=2 * 10 ** 20).letter(0), "ssp")
+
+    def test_great_blocks(self):
+        rows = [*[ROW] * 238, LESS, RowText(rested("k yo", "k"))]
+        work = Work(pattern((6, 1), Times(rows, 0, 1)), BIG)
+        self.assertEqual(work.outcome, ("through", 240 * BIG, (6,)))
+        self.assertEqual((work.place(240 * BIG - 1), work.counts(240 * BIG - 1)), ((0, BIG - 1, 239), (5,)))
+        self.assertEqual((work.place(7 * BIG), work.counts(7 * BIG)), ((0, 7 * BIG // 240, 7 * BIG % 240),
+                                                                        (6 + BIG - 7 * BIG // 240,)))
+        work = Work(pattern((130, 0), Repeat(rows, 60), Repeat(rows, 60)), 0)
+        self.assertEqual((work.outcome, work.counts(240 * 119 + 239)), (("through", 28800, (10,)), (9,)))
+        self.assertEqual(work.place(28799), (1, 59, 239))
+        work = Work(pattern((7, 0), *[Repeat([ROW], 1), Times([MORE], 0, 1)] * 100), BIG)
+        self.assertEqual(work.outcome, ("through", 100 + 100 * BIG, (7 + 200 * BIG,)))
+        self.assertEqual(work.place(99 * (BIG + 1)), (198, 0, 0))
+        self.assertEqual(work.counts(99 * (BIG + 1) + 5), (7 + 198 * BIG + 8,))
+        self.assertEqual(outcome_at(pattern((7, 0), *[Repeat([ROW], 1)] * 199, Cut(0, "left", 8)), 0),
+                         ("fails", 199, 199, 0, 0, 0, 7))
 
     def test_flat_names(self):
         self.assertTrue(all(USUAL.kind(name).back for name in FLAT))
