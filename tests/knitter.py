@@ -6,7 +6,9 @@ from stitchsizes.patterns import Cut, Merge, Pattern, Repeat, Times, Until
 from stitchsizes.rows import RowText
 from stitchsizes.sections import Evenly, Kept, Rested
 
-MANY_ROUNDS = 150
+# An UNTIL that ends or fails changes a section in each round, so it needs no more rounds than there are loops, or than
+# it looks for; drawn patterns look for 30 at the most.
+SPARE_ROUNDS = 40
 FLAT = ("k", "p", "ktog", "ssk", "yo", "bo")
 ROUND = (*FLAT, "kfb", "cdd")
 
@@ -71,8 +73,9 @@ class Knitter:
             self.needle[step.section:step.section + 2] = [both[0] + both[1]]
         else:
             times = 0
+            most = SPARE_ROUNDS + sum(self.counts())
             while not self.has_ended(step, times, size) and self.outcome is None:
-                if isinstance(step, Until) and times > MANY_ROUNDS:
+                if isinstance(step, Until) and times > most:
                     self.outcome = ("endless", number)
                     return
                 self.work_round(number, step.block, times)
