@@ -27,7 +27,7 @@ class Family:
             if not _is_part(book, part):
                 raise InvalidParts(position)
         self._book = book
-        self._parts = tuple([(word, _as_form(number)) for word, number in parts])
+        self._parts = tuple([(word, _form_of(number)) for word, number in parts])
 
     @property
     def book(self):
@@ -123,7 +123,7 @@ def text_family(text, loops):
     rest = over.constant if period == 0 else over.constant % period
     times = Form() if period == 0 else _divided(over - rest, period)
     if isinstance(text, Evenly):
-        parts = _evenly_parts(text, times, rest)
+        parts = _even_runs(text, times, rest)
     elif isinstance(text, Kept):
         shifted = text.repeated[text.shift:] + text.repeated[:text.shift]
         parts = [(text.before, 1), (shifted, times), (shifted[:rest], 1), (text.after, 1)]
@@ -149,7 +149,7 @@ def _is_part(book, part):
     return is_count(part[1])
 
 
-def _as_form(number):
+def _form_of(number):
     return Form(0, 0, number) if is_integer(number) else number
 
 
@@ -177,7 +177,7 @@ def _fits_somewhere(text, loops):
     return (loops.constant - first) % step == 0
 
 
-def _evenly_parts(text, times, rest):
+def _even_runs(text, times, rest):
     """The runs of plain stitches, each `times` long and some of them one longer, with the deed between."""
     runs = text.times + 1
     plain = (text.plain,)
