@@ -140,6 +140,12 @@ class Book:
 
     def made(self, word):
         """How many loops a word makes."""
+        return self.loops_made(word)
+
+    def loops_made(self, word):
+        """How many loops a word makes, under a name that no other class has."""
+        # Properties may call only what no method of the same name, in whatever class, can fail with: `made` of section
+        # texts raises NotFitting, which gives itself attributes that are properties elsewhere.
         return sum([kind.makes for kind in self._kinds_of(word)])
 
     def yarn_of(self, word):

@@ -53,7 +53,7 @@ class LongWord:
     @property
     def makes(self):
         """How many loops all letters make."""
-        return sum([self._book.made(word) * number for word, number in self._runs])
+        return sum([self._book.loops_made(word) * number for word, number in self._runs])
 
     @property
     def yarn(self):
