@@ -12,9 +12,15 @@ def check_block(block):
     """Raises InvalidBlock unless a value is a list of row texts of one book and with as many sections."""
     if not is_list_of(block, 1, _MOST_ROWS):
         raise InvalidBlock(None)
-    for position, row in enumerate(block):
-        if not isinstance(row, RowText) or row.book != block[0].book or len(row) != len(block[0]):
+    for position in range(len(block)):
+        if not is_row_beside(block, position):
             raise InvalidBlock(position)
+
+
+def is_row_beside(block, position):
+    """Whether the value at a position of a block is a row text of the book, and over the sections, of the first one."""
+    row = block[position]
+    return isinstance(row, RowText) and row.book == block[0].book and len(row) == len(block[0])
 
 
 def is_steady(block):
@@ -22,11 +28,14 @@ def is_steady(block):
 
     No section text is EVENLY then, and for each section the product of the slopes of its texts is 1.
     """
+    evenly = [text for row in block for text in row.texts if isinstance(text, Evenly)]
+    return not evenly and slopes_cancel(block)
+
+
+def slopes_cancel(block):
+    """Whether for each section the product of the slopes of its texts is 1."""
     for section in range(len(block[0])):
-        texts = [row.texts[section] for row in block]
-        if any([isinstance(text, Evenly) for text in texts]):
-            return False
-        top, bottom = _slope_through(texts)
+        top, bottom = _slope_through([row.texts[section] for row in block])
         if top != bottom:
             return False
     return True

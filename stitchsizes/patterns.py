@@ -196,14 +196,14 @@ class Pattern:
             raise InvalidBooks()
         if not isinstance(way, str) or way not in ("round", "right", "wrong"):
             raise InvalidWay(way)
-        _check_cast_on(cast_on)
+        check_cast_on(cast_on)
         if not is_list_of(steps, 0, _MOST_STEPS):
             raise InvalidSteps(None)
         sections = [len(cast_on)]
         for position, step in enumerate(steps):
-            if not _can_follow(book, sections[position], step):
+            if not can_follow(book, sections[position], step):
                 raise InvalidSteps(position)
-            sections.append(_sections_behind(sections[position], step))
+            sections.append(sections_behind(sections[position], step))
         if way != "round":
             _check_backs(book, steps)
         self._book = book
@@ -251,6 +251,46 @@ class Pattern:
         return self._cast_on == other._cast_on and self._steps == other._steps
 
 
+def check_cast_on(cast_on):
+    """Raises InvalidCastOn unless a value is a list of tuples of two counts, one for each section."""
+    if not is_list_of(cast_on, 1, _MOST_SECTIONS):
+        raise InvalidCastOn(None)
+    for position, loops in enumerate(cast_on):
+        if not isinstance(loops, tuple) or len(loops) != 2 or not is_count(loops[0]) or not is_count(loops[1]):
+            raise InvalidCastOn(position)
+
+
+def can_follow(book, sections, step):
+    """Whether any value is a step of a pattern that can be worked with so many sections."""
+    if isinstance(step, Cut):
+        return step.section < sections < _MOST_SECTIONS
+    if isinstance(step, Merge):
+        return step.section < sections - 1
+    if not isinstance(step, (Repeat, Times, Until)) or step.block[0].book != book or len(step.block[0]) != sections:
+        return False
+    if isinstance(step, Repeat):
+        return True
+    if isinstance(step, Until) and step.section >= sections:
+        return False
+    return is_steady(step.block)
+
+
+def sections_behind(sections, step):
+    """How many sections there are behind a step."""
+    if isinstance(step, Cut):
+        return sections + 1
+    if isinstance(step, Merge):
+        return sections - 1
+    return sections
+
+
+def resized_step(step, start, factor):
+    """The step with start + factor * n in the place of the size n."""
+    if isinstance(step, Times):
+        return Times(step.block, step.p + step.q * start, step.q * factor)
+    return step
+
+
 def _check_count(number):
     if not is_count(number):
         raise InvalidNumber(number)
@@ -267,38 +307,6 @@ def _until_parts(step):
 
 def _cut_parts(step):
     return (step.section, step.edge, step.loops)
-
-
-def _check_cast_on(cast_on):
-    if not is_list_of(cast_on, 1, _MOST_SECTIONS):
-        raise InvalidCastOn(None)
-    for position, loops in enumerate(cast_on):
-        if not isinstance(loops, tuple) or len(loops) != 2 or not is_count(loops[0]) or not is_count(loops[1]):
-            raise InvalidCastOn(position)
-
-
-def _can_follow(book, sections, step):
-    """Whether any value is a step that can be worked with so many sections."""
-    if isinstance(step, Cut):
-        return step.section < sections < _MOST_SECTIONS
-    if isinstance(step, Merge):
-        return step.section < sections - 1
-    if not isinstance(step, (Repeat, Times, Until)) or step.block[0].book != book or len(step.block[0]) != sections:
-        return False
-    if isinstance(step, Repeat):
-        return True
-    if isinstance(step, Until) and step.section >= sections:
-        return False
-    return is_steady(step.block)
-
-
-def _sections_behind(sections, step):
-    """How many sections there are behind a step."""
-    if isinstance(step, Cut):
-        return sections + 1
-    if isinstance(step, Merge):
-        return sections - 1
-    return sections
 
 
 def _check_backs(book, steps):

@@ -3,9 +3,11 @@
 from stitchsizes.checks import is_count
 from stitchsizes.errors import InvalidNumber, InvalidPattern, NoRow, NotThrough, TooMany
 from stitchsizes.fabrics import Fabric
+from stitchsizes.lines import value_at
 from stitchsizes.patterns import Pattern
-from stitchsizes.stages import all_stages, counts_within, start_of
-from stitchsizes.yarnsums import yarn_of_stage
+from stitchsizes.stages import outcome_told, prepared, worked
+from stitchsizes.stretch import Stretch
+from stitchsizes.yarnsums import yarn_of_stages, yarn_tables
 
 _MOST_ROWS = 400
 
@@ -15,7 +17,7 @@ class Work:
 
     def __init__(self, pattern, size):
         _check(pattern, size)
-        stages, outcome, stop = all_stages(pattern, size)
+        stages, outcome, stop = _worked_at(pattern, size)
         self._pattern = pattern
         self._size = size
         self._stages = tuple(stages)
@@ -70,7 +72,7 @@ class Work:
     def place(self, number):
         """Where a row stands, as a tuple (step, round, index)."""
         stage, times, index = self._stage_of(number)
-        return (stage[0], times, index)
+        return (stage.number, times, index)
 
     def each_row(self):
         """The rows as seen, in order."""
@@ -89,41 +91,56 @@ class Work:
         return Fabric(self._pattern.book, cast_on, [self.row(number) for number in range(self.row_count)])
 
     def _stage_of(self, number):
-        """The stage of a row, the round, and the index in it."""
+        """The stage of a row, the round of its step, and the index in it."""
         if not is_count(number) or self._stop is not None and number >= self.row_count:
             raise NoRow(number)
-        # Of several stages that begin with the same row, only the last one has it.
-        begun = [stage for stage in self._stages if stage[1] <= number]
-        last = begun[-1]
-        behind = number - last[1]
-        return (last, behind // len(last[2]), behind % len(last[2]))
+        stage = self._stages[_last_begun(self._stages, number)]
+        behind = number - value_at(stage.begin, 0)
+        many = len(stage.row_texts)
+        return (stage, stage.since + behind // many, behind % many)
 
     def _text_and_counts(self, number):
         """The row text of a row, and the counts ahead of it."""
         stage, times, index = self._stage_of(number)
-        step, _, table, starts = stage
-        counts = counts_within(table, start_of(starts, times), index)
-        return (self._pattern.steps[step].block[index], counts)
+        counts = stage.counts_at((times - stage.since, 0), index)
+        return (stage.row_texts[index], tuple([value_at(loops, 0) for loops in counts]))
 
 
 def outcome_at(pattern, size):
     """The outcome of a pattern at a size."""
     _check(pattern, size)
-    return all_stages(pattern, size)[1]
+    return _worked_at(pattern, size)[1]
 
 
 def yarn_at(pattern, size):
     """The yarn of a pattern at a size at which it goes through."""
     _check(pattern, size)
-    stages, outcome, stop = all_stages(pattern, size)
+    stages, outcome, stop = _worked_at(pattern, size)
     if outcome[0] != "through":
         raise NotThrough(outcome)
-    total = 0
-    ends = [stage[1] for stage in stages[1:]] + [outcome[1]]
-    for stage, end in zip(stages, ends):
-        number, first, table, starts = stage
-        total = total + yarn_of_stage(pattern.steps[number], table, starts, (end - first) // len(table))
-    return total
+    return yarn_of_stages(stages, yarn_tables(pattern.steps), 0)
+
+
+def _worked_at(pattern, size):
+    """The stages of a pattern at a size, its outcome, and the counts with which the work stops, None if it is endless.
+    """
+    stages, outcome, stop = worked(prepared(pattern.steps), pattern.cast_on, Stretch(size, 1, 0), True)
+    if stop is not None:
+        stop = tuple([value_at(loops, 0) for loops in stop])
+    return (stages, outcome_told(outcome, 0), stop)
+
+
+def _last_begun(stages, number):
+    """The position of the last stage that begins with a row or ahead of it."""
+    low = 0
+    high = len(stages) - 1
+    while low < high:
+        middle = (low + high + 1) // 2
+        if value_at(stages[middle].begin, 0) <= number:
+            low = middle
+        else:
+            high = middle - 1
+    return low
 
 
 def _check(pattern, size):

@@ -1,53 +1,84 @@
-"""The yarn of a step with a block, without going through all rounds."""
+"""The yarn of stages, without going through all rounds.
 
-from stitchsizes.patterns import Repeat
-from stitchsizes.quotients import quotient_sum
-from stitchsizes.sections import Kept
-from stitchsizes.stages import counts_of_round
+The yarn of a section text is told by numbers (first, period, ends, sums): on first + over loops it needs the yarn of
+its ends, for each whole period of the loops that are over the last one of the sums, and for what is left of them the
+sum with this number.
+"""
 
+from math import gcd
 
-def yarn_of_stage(step, table, starts, rounds):
-    """The yarn of so many rounds of a step, whose starts and table are those of its stage."""
-    if isinstance(step, Repeat):
-        return sum([_yarn_of_round(step, table, starts[number]) for number in range(rounds)])
-    if rounds == 0:
-        return 0
-    ahead = counts_of_round(table, starts[0])
-    next_time = counts_of_round(table, starts[1]) if rounds > 1 else ahead
-    total = 0
-    for row, counts, others in zip(step.block, ahead, next_time):
-        for text, loops, more in zip(row.texts, counts, others):
-            total = total + _yarn_of_text(text, loops, more - loops, rounds)
-    return total
+from stitchsizes.lines import value_at
+from stitchsizes.patterns import Cut, Merge
+from stitchsizes.sections import Evenly, Kept
 
 
-def _yarn_of_round(step, table, counts):
-    """The yarn of one round, begun with some counts."""
-    return sum([row.word(ahead).yarn for row, ahead in zip(step.block, counts_of_round(table, counts))])
+def yarn_tables(steps):
+    """For each step the numbers of its texts: a list for each row of its block, with a tuple for each section."""
+    return [[] if isinstance(step, (Cut, Merge)) else _table_of(step.block) for step in steps]
 
 
-def _yarn_of_text(text, loops, change, rounds):
-    """The yarn of a RESTED or KEPT text that is worked so often, each time on more loops, by the same change."""
+def yarn_of_stages(stages, tables, k):
+    """The yarn of all stages at one of the sizes."""
+    return sum([_yarn_of_stage(stage, tables[stage.number], k) for stage in stages])
+
+
+def make_even(stages, tables, stretch):
+    """Raises Uneven unless the yarn of the stages is a square function of k on a stretch."""
+    for stage in stages:
+        for row, counts, changes in zip(tables[stage.number], stage.ahead, stage.changes):
+            for (_, period, _, _), loops, change in zip(row, counts, changes):
+                stretch.remainder(loops, period)
+                stretch.remainder(stage.rounds, period // gcd(period, change))
+
+
+def _table_of(block):
+    return [[_yarn_numbers(text) for text in row.texts] for row in block]
+
+
+def _yarn_numbers(text):
     book = text.book
     first, step = text.counts()
-    ends = rounds * (book.yarn_of(text.before) + book.yarn_of(text.after))
-    if step == 0:
-        return ends
-    over = loops - first
+    if isinstance(text, Evenly):
+        return (first, 1, text.times * book.yarn_of(text.deed), (0, book.kind(text.plain).yarn))
+    ends = book.yarn_of(text.before) + book.yarn_of(text.after)
     if isinstance(text, Kept):
-        return ends + _yarn_of_letters(text, over, change, rounds)
-    # The sum of the numbers 0, 1, .. of the rounds, times the change, is the change of all rounds together.
-    loops_in_all = rounds * over + rounds * (rounds - 1) // 2 * change
-    return ends + loops_in_all // step * book.yarn_of(text.repeated)
+        sums = _sums_of([book.kind(name).yarn for name in text.repeated[text.shift:] + text.repeated[:text.shift]])
+        return (first, len(sums) - 1, ends, sums)
+    # What is over of a RESTED text is always a multiple of the step, so no other sums are asked for.
+    period = max(step, 1)
+    return (first, period, ends, (0,) * period + (book.yarn_of(text.repeated),))
 
 
-def _yarn_of_letters(text, over, change, rounds):
-    """The yarn of the letters between the ends of a KEPT text."""
-    length = len(text.repeated)
+def _sums_of(weights):
+    """The sums of the first of some numbers, from none of them to all; of just one number if all are the same."""
+    if weights.count(weights[0]) == len(weights):
+        return (0, weights[0])
+    sums = [0]
+    for weight in weights:
+        sums.append(sums[-1] + weight)
+    return tuple(sums)
+
+
+def _yarn_of_stage(stage, table, k):
+    rounds = value_at(stage.rounds, k)
     total = 0
-    for place in range(length):
-        # How many of the letters stand at this place modulo the length is a rounded quotient, in each round.
-        many = quotient_sum(rounds, length, change, over - place + length - 1)
-        kind = text.book.kind(text.repeated[(place + text.shift) % length])
-        total = total + many * kind.yarn
+    for row, counts, changes in zip(table, stage.ahead, stage.changes):
+        for numbers, loops, change in zip(row, counts, changes):
+            total = total + _yarn_of_text(numbers, value_at(loops, k) - numbers[0], change, rounds)
     return total
+
+
+def _yarn_of_text(numbers, over, change, rounds):
+    """The yarn of a text that is worked so often, each time on more loops, by the same change."""
+    _, period, ends, sums = numbers
+    # What is left of the loops that are over comes again and again.
+    cycle = period // gcd(period, change)
+    left = 0
+    parts = 0
+    for place in range(cycle):
+        times = rounds // cycle + (1 if place < rounds % cycle else 0)
+        rest = (over + place * change) % period
+        left = left + times * rest
+        parts = parts + times * sums[rest]
+    over_in_all = rounds * over + rounds * (rounds - 1) // 2 * change
+    return rounds * ends + (over_in_all - left) // period * sums[period] + parts
