@@ -118,6 +118,12 @@ def text_family(text, loops):
         raise InvalidForm(loops)
     if not _fits_somewhere(text, loops):
         raise NotFitting(0, loops.constant)
+    return Family(text.book, parts_of_text(text, loops))
+
+
+def parts_of_text(text, loops):
+    """The parts of the family of the words that a section text makes of so many loops as a form says, which fits."""
+    period = period_of(text)
     over = loops - text.counts()[0]
     # What is left of the number behind the whole periods; the factors are multiples of the period.
     rest = over.constant if period == 0 else over.constant % period
@@ -129,7 +135,7 @@ def text_family(text, loops):
         parts = [(text.before, 1), (shifted, times), (shifted[:rest], 1), (text.after, 1)]
     else:
         parts = [(text.before, 1), (text.repeated, times), (text.after, 1)]
-    return Family(text.book, [(word, number) for word, number in parts if len(word) > 0])
+    return [(word, number) for word, number in parts if len(word) > 0]
 
 
 def part_below(family, cell):

@@ -81,9 +81,8 @@ def _first_stretch(conditions):
 
     In a stretch the same line has the least reach down, and the same one the least reach up.
     """
-    downs = [(0, 0, 1)] + [(a, c, b) for a, b, c in conditions if b > 0]
-    ups = [(a, c, -b) for a, b, c in conditions if b < 0]
-    span = _real_span(downs, ups, [(a, c) for a, b, c in conditions if b == 0])
+    downs, ups, sides = lines_of(conditions)
+    span = real_span(downs, ups, sides)
     if span is None:
         return None
     first, end = span
@@ -91,13 +90,13 @@ def _first_stretch(conditions):
         # y can go up without an end, so a stretch of one x will do, between any lines.
         return (downs[0], downs[0], first, first)
     while end is None or first <= end:
-        down = _nearest(downs, first)
-        up = _nearest(ups, first)
-        last = _least_of([end, _end_of(down, downs), _end_of(up, ups)])
+        down = nearest_line(downs, first)
+        up = nearest_line(ups, first)
+        last = least_of([end, end_of_line(down, downs), end_of_line(up, ups)])
         if last is None:
             last = _sure_end(down, up, first)
             end = last
-        if _has_height(down, up, first):
+        if height_at(down, up, first) >= 0:
             return (down, up, first, first)
         if _points_between(down, up, first, last) > 0:
             return (down, up, first, last)
@@ -105,13 +104,21 @@ def _first_stretch(conditions):
     return None
 
 
-def _real_span(downs, ups, sides):
+def lines_of(conditions):
+    """The lines that tell how far y can go down, those that tell how far it can go up, and the tuples (a, c) of the
+    conditions that tell nothing of y."""
+    downs = [(0, 0, 1)] + [(a, c, b) for a, b, c in conditions if b > 0]
+    ups = [(a, c, -b) for a, b, c in conditions if b < 0]
+    return (downs, ups, [(a, c) for a, b, c in conditions if b == 0])
+
+
+def real_span(downs, ups, sides):
     """The counts x, from first to last, at which there is a real y, as a tuple, or None; last is None if there
     is no end."""
     bounds = [*sides]
     for down in downs:
         for up in ups:
-            bounds.append(_gap(down, up))
+            bounds.append(gap_between(down, up))
     first = 0
     last = None
     for a, c in bounds:
@@ -120,24 +127,24 @@ def _real_span(downs, ups, sides):
         if a > 0:
             first = max(first, -(c // a))
         if a < 0:
-            last = _least_of([last, c // -a])
+            last = least_of([last, c // -a])
     if last is not None and last < first:
         return None
     return (first, last)
 
 
-def _gap(down, up):
+def gap_between(down, up):
     """The tuple (a, c) for which a * x + c is the sum of both reaches at x, times both divisors."""
     return (down[0] * up[2] + up[0] * down[2], down[1] * up[2] + up[1] * down[2])
 
 
-def _least_of(limits):
+def least_of(limits):
     """The least of several limits, of which None is none."""
     numbers = [limit for limit in limits if limit is not None]
     return min(numbers) if numbers else None
 
 
-def _nearest(lines, x):
+def nearest_line(lines, x):
     """The line with the least reach at x; of several the one that stays the least from there on."""
     nearest = lines[0]
     for line in lines[1:]:
@@ -148,27 +155,28 @@ def _nearest(lines, x):
     return nearest
 
 
-def _end_of(nearest, lines):
+def end_of_line(nearest, lines):
     """The last x to which the line with the least reach keeps it, or None if it always does."""
     ends = []
     for a, c, divisor in lines:
         nearing = nearest[0] * divisor - a * nearest[2]
         if nearing > 0:
             ends.append((c * nearest[2] - nearest[1] * divisor) // nearing)
-    return _least_of(ends)
+    return least_of(ends)
 
 
 def _sure_end(down, up, first):
     """An x up to which there is a point from first on, if there is one at all, where neither line ever ends."""
-    a, c = _gap(down, up)
+    a, c = gap_between(down, up)
     if a == 0:
         return first + lcm(down[2], up[2]) - 1
     # Where both reaches are together at least 1, there is an integer between.
     return max(first, -((c - down[2] * up[2]) // a))
 
 
-def _has_height(down, up, x):
-    return (down[0] * x + down[1]) // down[2] + (up[0] * x + up[1]) // up[2] >= 0
+def height_at(down, up, x):
+    """How many steps there are between the least y and the greatest one at x; below 0 if there is no y."""
+    return (down[0] * x + down[1]) // down[2] + (up[0] * x + up[1]) // up[2]
 
 
 def _points_between(down, up, first, last):

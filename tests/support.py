@@ -10,14 +10,19 @@ if ROOT not in sys.path:
     sys.path.insert(0, ROOT)
 
 from stitchsizes import errors  # noqa: E402
+from stitchsizes.alike import Beside  # noqa: E402
 from stitchsizes.cells import Cell  # noqa: E402
+from stitchsizes.desk import Desk  # noqa: E402
 from stitchsizes.fabrics import Fabric  # noqa: E402
 from stitchsizes.families import Family  # noqa: E402
 from stitchsizes.forms import Form  # noqa: E402
 from stitchsizes.kinds import Book, Kind  # noqa: E402
 from stitchsizes.longwords import LongWord  # noqa: E402
+from stitchsizes.merging import SketchWork  # noqa: E402
 from stitchsizes.patterns import Cut, Merge, Pattern, Repeat, Times, Until  # noqa: E402
+from stitchsizes.pieces import pieces  # noqa: E402
 from stitchsizes.rows import RowText  # noqa: E402
+from stitchsizes.schedules import Along, Schedule, Sketch  # noqa: E402
 from stitchsizes.sections import Evenly, Kept, Rested  # noqa: E402
 from stitchsizes.sizes import Sizes  # noqa: E402
 from stitchsizes.trees import compare  # noqa: E402
@@ -59,11 +64,15 @@ def objects():
     family = Family(USUAL, [(("k",), Form(1))])
     row = RowText(Rested(USUAL, (), ("k",), ()))
     pattern = Pattern(USUAL, "round", [(4, 1)], [Repeat([row], 2)])
+    schedule = Schedule(0, "left", ("ktog",), 0, 1, until=2)
+    along = Along([row], [schedule])
+    sketch = Sketch(USUAL, "round", [(4, 1)], [along])
     return [
         Kind("k", 1, 1), USUAL, LongWord(USUAL, [(("k",), 3)]), Rested(USUAL, (), ("k",), ()),
         Kept(USUAL, (), ("k", "p"), (), shift=1), Evenly(USUAL, ("yo",), 2, "k"), Form(1, 2, 3), Cell(Form(1)),
         family, compare(family, family, Cell()), row, Fabric(USUAL, 3), Repeat([row], 1), Times([row], 1, 0),
         Until([row], 0, "just", 4), Cut(0, "left", 1), Merge(0), pattern, Work(pattern, 0), Sizes.whole(),
+        pieces(pattern)[0], schedule, along, sketch, SketchWork(sketch, 0), Beside(pattern, pattern), Desk(USUAL),
     ]
 
 
@@ -116,6 +125,10 @@ def no_row(value):
 
 def no_pattern(value):
     return not isinstance(value, Pattern)
+
+
+def no_sketch(value):
+    return not isinstance(value, Sketch)
 
 
 def no_word(value):

@@ -8,14 +8,20 @@ import os
 import unittest
 
 from support import ROOT, Case, USUAL
+from stitchsizes.alike import Beside
 from stitchsizes.cells import Cell
+from stitchsizes.desk import Desk
 from stitchsizes.families import Family
 from stitchsizes.forms import Form
 from stitchsizes.kinds import Book, Kind
 from stitchsizes.longwords import LongWord
-from stitchsizes.patterns import Pattern, Until
+from stitchsizes.merging import SketchWork
+from stitchsizes.patterns import Pattern, Times, Until
+from stitchsizes.pieces import first_trouble
 from stitchsizes.rows import RowText
+from stitchsizes.schedules import Along, Schedule, Sketch
 from stitchsizes.sections import Evenly, Rested
+from stitchsizes.texts import pattern_text, read_pattern, written_at
 from stitchsizes.trees import compare, texts_compared
 from stitchsizes.working import outcome_at
 
@@ -117,6 +123,41 @@ CLASSES = {
             "__sub__": "other", "__eq__": "other", "__bool__": "",
         }),
     },
+    "pieces": {
+        "Piece": ("stretch, outcome", {
+            "modulus": None, "residue": None, "first": None, "last": None, "start": None, "outcome": None,
+            "outcome_at": "size",
+        }),
+    },
+    "schedules": {
+        "Schedule": ("section, edge, deed, first, every, *, times=None, until=None", {
+            "section": None, "edge": None, "deed": None, "first": None, "every": None, "times": None, "until": None,
+            "__eq__": "other",
+        }),
+        "Along": ("base, schedules, *, rows=None", {"base": None, "schedules": None, "rows": None, "__eq__": "other"}),
+        "Sketch": ("book, way, cast_on, steps", {
+            "book": None, "way": None, "cast_on": None, "steps": None, "__len__": "", "__eq__": "other",
+        }),
+    },
+    "merging": {
+        "SketchWork": ("sketch, size", {
+            "sketch": None, "size": None, "outcome": None, "row_count": None, "row": "number", "counts": "number",
+            "each_row": "",
+        }),
+    },
+    "alike": {
+        "Beside": ("one, other", {
+            "one": None, "other": None, "alike": None, "parted": None, "neither": None, "only_one": None,
+            "only_other": None, "is_alike": None, "word": "size", "parting": "size", "least": "", "alike_from": "",
+            "swapped": "", "__eq__": "other",
+        }),
+    },
+    "desk": {
+        "Desk": ("book", {
+            "book": None, "do": "command", "do_all": "*commands", "names": "", "pattern_of": "name", "log": "",
+            "trial": "", "__contains__": "x", "__len__": "",
+        }),
+    },
 }
 FUNCTIONS = {
     "lists": {"counts_through": "texts", "made_through": "texts", "worked_through": "texts, loops",
@@ -126,8 +167,18 @@ FUNCTIONS = {
               "texts_compared": "one, other", "first_unlike": "one, other"},
     "rows": {"cut_section": "counts, section, edge, loops", "merge_section": "counts, section"},
     "working": {"outcome_at": "pattern, size", "yarn_at": "pattern, size"},
+    "pieces": {"pieces": "pattern", "sizes_through": "pattern", "sizes_failing": "pattern", "sizes_endless": "pattern",
+               "first_trouble": "pattern", "weight_of": "pattern"},
+    "yarn": {"least_more": "one, other", "always_more_from": "one, other"},
+    "merging": {"merged": "sketch", "sketch_through": "sketch", "sketch_weight": "sketch"},
+    "alike": {"resized": "pattern, start, factor", "are_alike": "one, other"},
+    "texts": {"word_text": "word", "section_text": "text", "row_text": "row", "book_text": "book",
+              "pattern_text": "pattern", "read_section": "book, text", "read_row": "book, text", "read_book": "text",
+              "read_pattern": "book, text", "written_at": "pattern, size"},
+    "desk": {"tried": "desk, *commands"},
 }
-GENERATORS = (("cells", "Cell", "points"), ("trees", "Tree", "leaves"), ("working", "Work", "each_row"))
+GENERATORS = (("cells", "Cell", "points"), ("trees", "Tree", "leaves"), ("working", "Work", "each_row"),
+              ("merging", "SketchWork", "each_row"))
 
 
 def parameters(made):
@@ -208,6 +259,45 @@ class TestExamples(Case):
         hat = Pattern(book, "round", [(20, 4)], [Until(block, 0, "at most", 8)])
         self.assertEqual([outcome_at(hat, 0), outcome_at(hat, 10 ** 20)],
                          [("through", 12, (8,)), ("through", 400000000000000000012, (8,))])
+
+    def test_stage_6(self):
+        book = Book.usual()
+        block = [RowText(Rested(book, ("ktog",), ("k",), ("ssk",))), RowText(Rested(book, (), ("k",), ()))]
+        hat = Pattern(book, "round", [(20, 4)], [Until(block, 0, "at most", 8)])
+        self.assertEqual([outcome_at(hat, 0), outcome_at(hat, 10 ** 20), first_trouble(hat)],
+                         [("through", 12, (8,)), ("through", 400000000000000000012, (8,)), None])
+        self.assertEqual(first_trouble(Pattern(book, "round", [(20, 4)], [Until(block, 0, "just", 7)])),
+                         (0, ("fails", 18, 0, 9, 0, 0, 2)))
+
+    def test_stage_7(self):
+        book = Book.usual()
+        right = Schedule(0, "right", ("ktog",), 0, 4, times=(3, 0))
+        left = Schedule(0, "left", ("ssk",), 2, 6, until=12)
+        along = Along([RowText(Rested(book, (), ("k",), ()))], [right, left])
+        sleeve = Sketch(book, "round", [(20, 2)], [along])
+        self.assertEqual([SketchWork(sketch=sleeve, size=0).outcome, SketchWork(sleeve, 10 ** 20).outcome],
+                         [("through", 32, (12,)), ("through", 1200000000000000000032, (12,))])
+
+    def test_stage_8(self):
+        book = Book.usual()
+        block = [RowText(Rested(book, ("ktog",), ("k",), ("ssk",))), RowText(Rested(book, (), ("k",), ()))]
+        hat = Pattern(book, "round", [(20, 4)], [Until(block, 0, "at most", 8)])
+        same = Pattern(book, "round", [(20, 4)], [Times(block, 6, 2)])
+        less = Pattern(book, "round", [(20, 4)], [Times(block, 5, 2)])
+        self.assertEqual([Beside(hat, same).is_alike, Beside(hat, less).least()], [True, (0, ("lacks", 10, 2))])
+
+    def test_stage_9(self):
+        book = Book.usual()
+        text = "round\ncast on 4 n + 20\nuntil 0 at most 8\n- ktog, (k) to last 2, ssk\n- (k) to last 0\n"
+        hat = read_pattern(book, text)
+        self.assertEqual(pattern_text(written_at(hat, 10)),
+                         "round\ncast on 60\ntimes 26\n- ktog, (k) to last 2, ssk\n- (k) to last 0\n")
+        desk = Desk(book)
+        self.assertEqual(desk.do("put hat\n" + pattern_text(hat)), "new")
+        told = [desk.do("work hat 10"), desk.do("line hat 4\n- ssk, (k) to last 2, ktog"),
+                desk.do("line hat 3\nuntil 0 just 7")]
+        self.assertEqual(told, ["through: 52 rows, 8 loops", "size 0: row 0, place 0: ktog, ssk",
+                                "size 0: row 12: first has ended"])
 
     def test_readme(self):
         failed, tried = doctest.testfile(os.path.join(ROOT, "README.md"), module_relative=False)

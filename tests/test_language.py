@@ -262,10 +262,11 @@ class Checker:
         if node.name.startswith("__"):
             self.check_special(name, node)
         if yields(node):
-            if given or node.name in METHODS or self.generators.count(node.name) > 1:
+            if given or node.name in METHODS:
                 self.told("L23", name, line, "a generator")
+            # The interface lists a generator of the same name for two classes, so only other functions are meant.
             if [other for tree in self.trees.values() for other in ast.walk(tree)
-                    if isinstance(other, ast.FunctionDef) and other.name == node.name and other != node]:
+                    if isinstance(other, ast.FunctionDef) and other.name == node.name and not yields(other)]:
                 self.told("L23", name, line, "another function has the name of a generator")
         if "property" in given and (node.name in BUILTIN_METHODS or len(node.args.args) != 1):
             self.told("L5", name, line, "a property")
@@ -465,6 +466,9 @@ def is_plain(node):
         return True
     if isinstance(node, (ast.Tuple, ast.List)):
         return all(isinstance(part, (ast.Constant, ast.Tuple)) and is_plain(part) for part in node.elts)
+    if isinstance(node, ast.Dict):
+        parts = [*node.keys, *node.values]
+        return all(isinstance(part, (ast.Constant, ast.Tuple)) and is_plain(part) for part in parts)
     return isinstance(node, ast.UnaryOp) and isinstance(node.operand, ast.Constant)
 
 
