@@ -52,7 +52,9 @@ def parted_sizes(overlap, stretch):
             least = first + (residue - first) % modulus
             size = stretch.start + stretch.modulus * (place + turn * least)
             count = None if most is None else (most - least) // modulus
-            found.append(Stretch(size, stretch.modulus * turn * modulus, count))
+            # A modulus tells nothing of one size alone, and would only make that of the whole set greater.
+            step = stretch.modulus if count == 0 else stretch.modulus * turn * modulus
+            found.append(Stretch(size, step, count))
     return found
 
 
@@ -72,7 +74,7 @@ def first_unlike(overlap):
         for cell, place, name, twin in _parted_leaves(tracks, row, group, _cell_of(row, rows, group, is_one, 0)):
             y = cell.least()[1]
             found.append((begin[0] + row + group * y, place.at(0, y), name, twin))
-    # Rows with the same number are told once, so the names are never compared.
+    # Each row lies in one leaf, so the numbers of the rows are unlike.
     return min(found) if found else None
 
 

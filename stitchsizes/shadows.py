@@ -44,25 +44,11 @@ def _between(down, up, first, last):
 
 
 def _one_by_one(down, up, first, last):
-    """As _between, told for each residue by itself; modulo the turn, the height at x is a line."""
+    """As _between, told for each residue by itself. With each turn the height changes by the same number: not at all if
+    the lines stay apart, and otherwise the x where the gap is so small are fewer than a turn."""
     turn = lcm(down[2] // gcd(down[0], down[2]), up[2] // gcd(up[0], up[2]))
     found = []
     for x in range(first, first + turn if last is None else min(first + turn, last + 1)):
-        height = height_at(down, up, x)
-        rise = height_at(down, up, x + turn) - height
-        most = None if last is None else (last - x) // turn
-        places = _places_above(height, rise, most)
-        if places is not None:
-            end = None if places[1] is None else x + turn * places[1]
-            found.append((turn, x % turn, x + turn * places[0], end))
+        if height_at(down, up, x) >= 0:
+            found.append((turn, x % turn, x, None if last is None else last - (last - x) % turn))
     return found
-
-
-def _places_above(height, rise, most):
-    """The first and the last k up to most for which height + rise * k is at least 0, or None."""
-    if height >= 0:
-        return (0, most if rise >= 0 else least_of([most, height // -rise]))
-    if rise <= 0:
-        return None
-    first = -(height // rise)
-    return None if most is not None and first > most else (first, most)

@@ -371,6 +371,13 @@ class TestEdges(Case):
         self.assertEqual(sketch_through(sketch((9, 1), Along([ROW], [does("yo", until=BIG)]))), Sizes((1, 0, 0, BIG - 9)))
         self.assertEqual(sketch_through(sketch((9, 1), Cut(0, "left", 11))), Sizes((1, 0, 2, None)))
         self.assertEqual(sketch_through(sketch=sketch((0, 0))), EVERY)
+        # What would end the rows first is the limit at small sizes, and the schedule at great ones.
+        ends = sketch((5, 1), Along([ROW], [does("bo", times=(30, 0))], rows=(10, 2)))
+        self.assertEqual(sketch_through(ends), Sizes((1, 0, 25, None)))
+        for size in (0, 9, 10, 24, 25, 26):
+            self.assertEqual(SketchWork(ends, size).outcome, Sketcher(ends, size).told())
+        part, = [part for part in merged(ends) if is_in(part, BIG)]
+        self.assertEqual(outcome_at(part[4], (BIG - start_of(part)) // part[0]), ("through", 2 * BIG + 10, (BIG - 25,)))
 
 
 class TestErrors(Case):

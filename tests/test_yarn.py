@@ -134,6 +134,19 @@ class TestTold(Case):
         self.assertEqual(least_more(less, plain), 0)
         self.assertEqual(least_more(plain, less), 1)
 
+    def test_rounds_that_break_off(self):
+        """A rib that grows by a loop in each round is not half k and half p in every second one."""
+        book = Book(Kind("k", 1, 1, yarn=2), Kind("p", 1, 1, yarn=4), Kind("q", 1, 1, yarn=3), Kind("yo", 0, 1, yarn=0),
+                    Kind("bo", 1, 0))
+        plain = Pattern(book, "round", [(0, 0)], [Times([RowText(Rested(book, ("yo",), ("q",), ()))], 0, 1)])
+        rib = Times([RowText(Kept(book, ("yo",), ("k", "p"), ()))], 0, 1)
+        for lead in (0, 1, 10, BIG):
+            # In n rounds it needs as many less than 3 for each loop as there are odd numbers below n.
+            more = Pattern(book, "round", [(lead, 0)], [Repeat([RowText(Rested(book, (), ("bo",), ()))], 1), rib])
+            self.assertEqual([yarn_at(plain, n) - yarn_at(more, n) + lead for n in (0, 1, 2, 3, 4, 9)], [0, 0, 1, 1, 2, 4])
+            self.check(plain, more, 2 * lead + 2, 2 * lead + 2)
+            self.check(more, plain, 0 if lead else None, None)
+
     def test_other_books(self):
         other = Pattern(OTHER_BOOK, "round", [(3, 1)], [rows(2, 0, OTHER_BOOK)])
         self.check(other, pattern((3, 1), rows(1, 0)), 0, 0)
