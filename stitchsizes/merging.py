@@ -1,6 +1,7 @@
 """Sketches worked at one size, and merged into patterns for all sizes."""
 
-from stitchsizes.alongs import AlongPlan, along_steps
+from stitchsizes.alongplans import AlongPlan
+from stitchsizes.alongs import along_steps
 from stitchsizes.checks import is_count
 from stitchsizes.errors import InvalidNumber, InvalidSketch
 from stitchsizes.patterns import Pattern, resized_step
@@ -110,7 +111,7 @@ def _plan_of(sketch):
 
 
 def _merged_on(plan, stretch):
-    """The pattern that a sketch becomes on a stretch, and how it ends: "through", "fails" or "endless"."""
+    """The pattern that a sketch becomes on a stretch, and how it ends: "through" or "stops"."""
     sketch, ready = plan
     cast_on = tuple([stretch.of_size(p, q) for p, q in sketch.cast_on])
     counts = cast_on
@@ -123,7 +124,7 @@ def _merged_on(plan, stretch):
         else:
             steps.append(resized_step(step, stretch.start, stretch.modulus))
             _, _, counts, outcome = worked_step(0, told, stretch, (0, 0), counts, False)
-            ending = "through" if outcome is None else outcome[0]
+            ending = "through" if outcome is None else "stops"
         if ending != "through":
             break
     return (Pattern(sketch.book, sketch.way, cast_on, steps), ending)

@@ -60,6 +60,8 @@ class Rested(SectionText):
         self._before = tuple(before)
         self._repeated = tuple(repeated)
         self._after = tuple(after)
+        self._counts = (book.taken(before) + book.taken(after), book.taken(repeated))
+        self._made_counts = (book.made(before) + book.made(after), book.made(repeated))
 
     @property
     def book(self):
@@ -96,13 +98,11 @@ class Rested(SectionText):
 
     def counts(self):
         """The progression of the counts that fit."""
-        ends = self._book.taken(self._before) + self._book.taken(self._after)
-        return (ends, self._book.taken(self._repeated))
+        return self._counts
 
     def made_counts(self):
         """The tuple (made_first, made_step) of what is made of the counts that fit."""
-        ends = self._book.made(self._before) + self._book.made(self._after)
-        return (ends, self._book.made(self._repeated))
+        return self._made_counts
 
     def slope(self):
         """How many loops are made of one more loop, as a tuple (top, bottom) in lowest terms."""
@@ -131,6 +131,8 @@ class Kept(SectionText):
         self._repeated = tuple(repeated)
         self._after = tuple(after)
         self._shift = shift
+        self._counts = (book.taken(before) + book.taken(after), 1)
+        self._made_counts = (book.made(before) + book.made(after), 1)
 
     @property
     def book(self):
@@ -174,11 +176,11 @@ class Kept(SectionText):
 
     def counts(self):
         """The progression of the counts that fit."""
-        return (self._book.taken(self._before) + self._book.taken(self._after), 1)
+        return self._counts
 
     def made_counts(self):
         """The tuple (made_first, made_step) of what is made of the counts that fit."""
-        return (self._book.made(self._before) + self._book.made(self._after), 1)
+        return self._made_counts
 
     def slope(self):
         """How many loops are made of one more loop, as a tuple (top, bottom) in lowest terms."""
@@ -205,6 +207,8 @@ class Evenly(SectionText):
         self._deed = tuple(deed)
         self._times = times
         self._plain = plain
+        self._counts = (times * book.taken(deed), 1)
+        self._made_counts = (times * book.made(deed), 1)
 
     @property
     def book(self):
@@ -246,11 +250,11 @@ class Evenly(SectionText):
 
     def counts(self):
         """The progression of the counts that fit."""
-        return (self._times * self._book.taken(self._deed), 1)
+        return self._counts
 
     def made_counts(self):
         """The tuple (made_first, made_step) of what is made of the counts that fit."""
-        return (self._times * self._book.made(self._deed), 1)
+        return self._made_counts
 
     def slope(self):
         """How many loops are made of one more loop, as a tuple (top, bottom) in lowest terms."""

@@ -90,7 +90,7 @@ def drawn_base(chance, names, sections):
                 repeated = drawn_word(chance, ["k", "p"], 2) + ("k",)
                 texts.append(Kept(USUAL, (), repeated, (), shift=chance.randrange(len(repeated))))
             else:
-                repeated = chance.choice([("k",), ("k",), ("k",), ("k", "p"), ("ktog", "yo")])
+                repeated = chance.choice([("k",), ("k",), ("k",), ("k", "p"), ("ktog", "yo"), ()])
                 ends = [chance.choice([(), (), (), ("k",), ("p", "p"), ("ktog",), ("yo",)]) for _ in range(2)]
                 texts.append(Rested(USUAL, ends[0], repeated, ends[1]))
         rows.append(RowText(*texts))

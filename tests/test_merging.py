@@ -130,6 +130,40 @@ class TestRows(Case):
         self.check(sketch((5, 0), *[Along([RIB], [does("bo", times=(1, 0))])] * 2), 0, ["bo p p k p", "bo p p k"],
                    ("through", 2, (3,)))
 
+    def test_bases_of_just_so_many_loops(self):
+        two = RowText(rested("p p", ""), PLAIN)
+        along = Along([two], [does("bo", section=1, times=(2, 1))])
+        self.check(sketch([(2, 0), (3, 0)], along), 0, ["p p bo k k", "p p bo k"], ("through", 2, (2, 1)))
+        for size in (1, 2, 50, BIG):
+            told = SketchWork(sketch([(2, 0), (3, 1)], along), size)
+            self.assertEqual(told.outcome, ("through", 2 + size, (2, 1)))
+            self.assertEqual(SketchWork(sketch([(2, 1), (3, 1)], along), size).outcome, ("fails", 0))
+        moving = Along([two], [does("ktog", times=(9, 9)), does("k", section=1, until=0)])
+        self.check(sketch([(4, 0), (1, 0)], moving), 0, ["ktog p p k"], ("fails", 1))
+        self.check(sketch([(3, 0), (1, 0)], moving), 0, [], ("fails", 0))
+        self.assertEqual(SketchWork(sketch([(4, 0), (1, 1)], moving), BIG).outcome, ("fails", 1))
+        self.assertEqual(sketch_through(sketch([(1, 1), (9, 0)], Along([two], [does("k", times=(0, 5))]))), Sizes.of(0, 2))
+        endless = Along([two], [does("k", section=1, until=0)])
+        self.assertEqual(SketchWork(sketch([(2, 0), (1, 0)], endless), 0).outcome, ("endless",))
+        self.assertEqual(SketchWork(sketch([(3, 0), (1, 0)], endless), 0).outcome, ("fails", 0))
+
+    def test_until_within_a_period(self):
+        """The loops are fewest in the middle of the period, or at its beginning."""
+        waves = [ROW, RowText(rested("ktog ktog", "k")), ROW, RowText(rested("yo yo", "k"))]
+        along = Along(waves, [does("k", until=9)])
+        for loops, rows, left in ((9, 0, 9), (10, 2, 8), (11, 2, 9)):
+            self.assertEqual(SketchWork(sketch((loops, 0), along), 0).outcome, ("through", rows, (left,)))
+            self.assertEqual(Sketcher(sketch((loops, 0), along), 0).told(), ("through", rows, (left,)))
+        self.assertEqual(SketchWork(sketch((12, 0), along), 0).outcome, ("endless",))
+        rising = Along([RowText(rested("yo yo", "k")), RowText(rested("ktog ktog", "k"))], [does("bo", until=5)])
+        for size in range(12):
+            told = sketch((9, 1), rising)
+            self.assertEqual(SketchWork(told, size).outcome, Sketcher(told, size).told())
+            part, = [part for part in merged(told) if is_in(part, size)]
+            self.assertEqual(outcome_at(part[4], (size - start_of(part)) // part[0]), Sketcher(told, size).told())
+        # Ahead of rows 0, 2, 4 .. there are 9 + n loops, and two less each time; ahead of the others one more.
+        self.assertEqual(SketchWork(sketch((9, 2), rising), BIG).outcome, ("through", 2 * BIG + 4, (5,)))
+
     def test_failing(self):
         along = Along([ROW], [does("ktog", times=(9, 0)), does("ssk", "left", first=1, times=(1, 0))])
         self.check(sketch((5, 0), along), 0, ["ktog k k k", "ktog ssk", "ktog"], ("fails", 3))
@@ -314,6 +348,17 @@ class TestDrawn(Case):
         self.assertFalse(left)
         self.assertIs(type(through), Sizes)
 
+    def test_lines_of_later_periods(self):
+        """The KEPT texts of a period depend on how far the edge was moved ahead of it."""
+        along = Along([RIB], [does("bo", times=(0, 1)), does("p", "left", times=(30, 0))])
+        told = sketch((20, 1), along)
+        parts = merged(told)
+        for size in range(12):
+            part, = [part for part in parts if is_in(part, size)]
+            knitter = Sketcher(told, size)
+            rows = list(Work(part[4], (size - start_of(part)) // part[0]).each_row())
+            self.assertEqual(rows, [LongWord.of(USUAL, *names) for names, _, _ in knitter.rows])
+
     def test_each_row(self):
         chance = drawn(182)
         for _ in range(40):
@@ -371,6 +416,12 @@ class TestEdges(Case):
         self.assertEqual(sketch_through(sketch((9, 1), Along([ROW], [does("yo", until=BIG)]))), Sizes((1, 0, 0, BIG - 9)))
         self.assertEqual(sketch_through(sketch((9, 1), Cut(0, "left", 11))), Sizes((1, 0, 2, None)))
         self.assertEqual(sketch_through(sketch=sketch((0, 0))), EVERY)
+        # What fits once does not fit again.
+        pairs = Along([RowText(rested("", "k k"))], [does("bo", times=(0, 1))])
+        self.assertEqual(sketch_through(sketch((5, 0), pairs)), Sizes.of(0, 1))
+        for deed, loops in (("ktog", 4), ("yo", 2)):
+            just = Along([RowText(rested("p p", ""))], [does(deed, times=(0, 1))])
+            self.assertEqual(sketch_through(sketch((loops, 0), just)), Sizes.of(0, 1))
         # What would end the rows first is the limit at small sizes, and the schedule at great ones.
         ends = sketch((5, 1), Along([ROW], [does("bo", times=(30, 0))], rows=(10, 2)))
         self.assertEqual(sketch_through(ends), Sizes((1, 0, 25, None)))
